@@ -1,0 +1,1 @@
+"""How many slips a plan without end bears. Import from the modules of this package."""

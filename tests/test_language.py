@@ -1,0 +1,94 @@
+"""The rules of ../shared/LANGUAGE.md that can be seen from the files, and the interface of the document."""
+
+import ast
+import builtins
+import importlib
+import inspect
+import pathlib
+import unittest
+
+PACKAGE = pathlib.Path(__file__).resolve().parents[1] / "howmanyslips"
+FILES = sorted(PACKAGE.glob("*.py"))
+
+BUILTINS = (
+    "len range enumerate zip min max sum abs sorted reversed int str bool list tuple dict set isinstance ord repr any "
+    "all divmod Exception ValueError TypeError KeyError IndexError LookupError").split()
+METHODS = (
+    "append clear copy count endswith extend find get index insert isalnum isalpha isdigit islower isspace isupper "
+    "items join keys ljust lower lstrip partition pop remove replace reverse rfind rjust rpartition rsplit rstrip "
+    "setdefault split splitlines startswith strip update upper values zfill bit_length isascii isdecimal add discard "
+    "__init__").split()
+STATEMENTS = (ast.Global, ast.Nonlocal, ast.AsyncFunctionDef, ast.AsyncFor, ast.AsyncWith, ast.Import, ast.Lambda)
+
+INTERFACE = {
+    "games": {"is_game": ["thing"], "places": ["game"], "game_text": ["game"], "read_game": ["text"]},
+    "plays": {
+        "is_lasso": ["game", "thing"], "is_path": ["game", "thing"], "winner": ["game", "lasso"],
+        "lasso_weight": ["game", "lasso"], "path_weight": ["game", "path"],
+    },
+}
+
+
+def trees():
+    for file in FILES:
+        yield file.name, ast.parse(file.read_text())
+
+
+def nodes(kind):
+    for name, tree in trees():
+        for node in ast.walk(tree):
+            if isinstance(node, kind):
+                yield name, node
+
+
+class LanguageTest(unittest.TestCase):
+    def test_the_folder_holds_files_of_the_package_alone(self):
+        found = [file.name for file in PACKAGE.iterdir() if file.name != "__pycache__"]
+        self.assertEqual(sorted(found), [file.name for file in FILES])
+
+    def test_sizes_and_signs(self):
+        for file in FILES:
+            text = file.read_text()
+            self.assertLessEqual(text.count("\n"), 399, file.name)
+            self.assertTrue(set(text) <= {"\n", *map(chr, range(32, 127))}, file.name)
+            self.assertLessEqual(max(map(len, text.split("\n"))), 120, file.name)
+        for name, node in nodes(ast.FunctionDef):
+            self.assertLessEqual(node.end_lineno - node.lineno + 1, 40, (name, node.name))
+            self.assertEqual(node.decorator_list, [], (name, node.name))
+
+    def test_imports_are_of_the_package_by_full_names(self):
+        for name, node in nodes((ast.Import, ast.ImportFrom)):
+            self.assertIsInstance(node, ast.ImportFrom, name)
+            self.assertEqual(node.level, 0, name)
+            self.assertTrue(node.module.startswith("howmanyslips."), name)
+            for alias in node.names:
+                module = importlib.import_module(node.module)
+                self.assertEqual(getattr(module, alias.name).__module__, node.module, (name, alias.name))
+
+    def test_only_builtins_and_methods_that_are_allowed(self):
+        own = {node.name for _, node in nodes((ast.FunctionDef, ast.ClassDef))}
+        for name, node in nodes(ast.Name):
+            if hasattr(builtins, node.id):
+                self.assertIn(node.id, [*BUILTINS, "super"], name)
+        for name, node in nodes(ast.Call):
+            if isinstance(node.func, ast.Attribute):
+                self.assertIn(node.func.attr, [*METHODS, *own], name)
+
+    def test_no_statement_that_is_not_used_here(self):
+        self.assertEqual([(name, type(node).__name__) for name, node in nodes(STATEMENTS)], [])
+        self.assertEqual([name for name, _ in nodes((ast.GeneratorExp, ast.Set, ast.Div, ast.Try))], [])
+
+    def test_no_per_cent_sign_in_a_string(self):
+        strings = [node.value for _, node in nodes(ast.Constant) if isinstance(node.value, str)]
+        self.assertEqual([text for text in strings if "%" in text], [])
+
+    def test_functions_stand_where_the_interface_lists_them(self):
+        for module, functions in INTERFACE.items():
+            for name, parameters in functions.items():
+                function = getattr(importlib.import_module(f"howmanyslips.{module}"), name)
+                self.assertEqual(function.__module__, f"howmanyslips.{module}")
+                self.assertEqual(list(inspect.signature(function).parameters), parameters)
+
+
+if __name__ == "__main__":
+    unittest.main()
