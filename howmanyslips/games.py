@@ -1,6 +1,6 @@
 """Games, and how they are written as texts."""
 
-from howmanyslips.errors import BadGame, BadText
+from howmanyslips.errors import BadGame, BadPlace, BadText
 from howmanyslips.kinds import is_index, is_integer_from, is_rising, is_tuple_of
 
 
@@ -47,6 +47,12 @@ def require_game(game):
     """Raises BadGame if the game is none."""
     if not is_game(game):
         raise BadGame(game)
+
+
+def require_place(game, place):
+    """Raises BadPlace if the place is none of the game."""
+    if not is_index(place, len(game)):
+        raise BadPlace(place)
 
 
 def places(game):

@@ -1,6 +1,7 @@
 """What several tests use: values of all kinds, changed values, games by chance from a fixed seed."""
 
 import random
+import unittest
 
 GAME = (("keeper", 2, (0,), ((1, 1),)), ("keeper", 1, (0, 2), ((2, 2),)), ("foe", 1, (2,), ()))
 
@@ -46,6 +47,15 @@ def raised(call, *args, **more):
     raise AssertionError(f"nothing raised, returned {result!r}")
 
 
+class ErrorsCase(unittest.TestCase):
+    """Tests that ask for errors with a thing."""
+
+    def assert_raised(self, name, thing, call, *args):
+        told, attributes = raised(call, *args)
+        self.assertEqual((told, list(attributes)), (name, ["thing"]), (call, args))
+        self.assertIs(attributes["thing"], thing)
+
+
 def chance_game(chance, many=5):
     """A game with at most so many places."""
     count = chance.randint(1, many)
@@ -63,6 +73,48 @@ def chance_row(chance, count):
 def chance_games(seed, times):
     chance = random.Random(seed)
     return [chance_game(chance) for _ in range(times)]
+
+
+def small_game(chance, many=4, mark=4, weight=3, slips=10):
+    """A game with at most so many places and slips, and mostly few edges, so that all kinds of numbers come up."""
+    count = chance.choice((chance.randint(1, many), many, many))
+    rows = []
+    for _ in range(count):
+        owner = chance.choice(("keeper", "keeper", "keeper", "foe"))
+        moves = chance.sample(range(count), chance.randint(1, min(2, count)))
+        goals = chance.sample(range(count), min(count, slips, chance.choice((0, 1, 1, 2)))) if owner == "keeper" else []
+        slips -= len(goals)
+        pairs = tuple((goal, chance.randint(1, weight)) for goal in sorted(goals))
+        rows.append((owner, chance.randint(0, mark), tuple(sorted(moves)), pairs))
+    return tuple(rows)
+
+
+def ladder_game(chance, many=4, weight=3):
+    """A game in which slips often lead to a place that is lost, so that many numbers are integers."""
+    count = chance.randint(2, many)
+    rows = []
+    for _ in range(count - 1):
+        owner = chance.choice(("keeper", "keeper", "keeper", "foe"))
+        moves = chance.sample(range(count - 1), chance.randint(1, min(2, count - 1)))
+        goals = chance.sample(range(count), min(count, chance.choice((1, 1, 2)))) if owner == "keeper" else []
+        pairs = tuple((goal, chance.randint(1, weight)) for goal in sorted(goals))
+        rows.append((owner, chance.choice((0, 0, 2, 1)), tuple(sorted(moves)), pairs))
+    return *rows, (chance.choice(("keeper", "foe")), 1, (count - 1,), ())
+
+
+def small_games(seed, times, many=4, mark=4, weight=3):
+    """So many games, half of them ladders."""
+    chance = random.Random(seed)
+    games = []
+    for _ in range(times // 2):
+        games.append(small_game(chance, many, mark, weight))
+        games.append(ladder_game(chance, many, weight))
+    return games
+
+
+def chance_plan(chance, game):
+    """Any plan, best or not."""
+    return tuple(chance.choice(row[2]) if row[0] == "keeper" else None for row in game)
 
 
 def chance_walk(chance, game, place, length):

@@ -21,8 +21,49 @@ PLAYS = r'''
 ['foe', 3, 'keeper', 'endless', 1, False]
 '''
 
+PLANS = r'''
+>>> from howmanyslips.plans import weak_holds, weak_lasso, with_plan, worths
+>>> GAME = (("keeper", 2, (0,), ((1, 1),)), ("keeper", 1, (0, 2), ((2, 2),)), ("foe", 1, (2,), ()))
+>>> LOOPS, FIRM = (("keeper", 0, (0,), ((1, 1),)), ("keeper", 1, (0,), ())), (("keeper", 2, (0,), ((1, 1),)), ("keeper", 1, (0,), ()))
+>>> [worths(GAME, (0, 0, None)), worths(GAME, (0, 2, None)), weak_holds(GAME, (0, 2, None), 0, (((0, "slip"), (1, "move")), ((2, "move"),))), worths(LOOPS, (0, 0)), worths(FIRM, (0, 0)), weak_lasso(FIRM, (0, 0), 0), with_plan(GAME, (0, 2, None))[1]]
+[(3, 2, 0), (1, 0, 0), True, ('any', 'any'), ('ever', 'ever'), None, ('keeper', 1, (2,), ((2, 2),))]
+'''
+
+NUMBERS = r'''
+>>> from howmanyslips.numbers import best_plan, is_less, judge_game, level, numbers
+>>> GAME = (("keeper", 2, (0,), ((1, 1),)), ("keeper", 1, (0, 2), ((2, 2),)), ("foe", 1, (2,), ()))
+>>> LOOPS, FIRM = (("keeper", 0, (0,), ((1, 1),)), ("keeper", 1, (0,), ())), (("keeper", 2, (0,), ((1, 1),)), ("keeper", 1, (0,), ()))
+>>> [numbers(GAME), numbers(LOOPS), numbers(FIRM), best_plan(GAME), judge_game(GAME)[1], level(GAME, 2), is_less(9, "any"), is_less("ever", "any")]
+[(3, 2, 0), ('any', 'any'), ('ever', 'ever'), (0, 0, None), (3, 2, 0), (1,), True, False]
+>>> from howmanyslips.numbers import numbers
+>>> EITHER = (("keeper", 1, (0, 1), ()), ("keeper", 0, (1,), ((2, 1),)), ("keeper", 1, (2,), ()))
+>>> numbers(EITHER)
+(1, 1, 0)
+>>> from howmanyslips.numbers import game_holds
+>>> game_holds(GAME, ("numbers", (3, 2, 0), ((0, (0,)), (0, (0,)), None), ((1, (0, 0)), (2, (0, 0)), (2, (0, 0)))))
+True
+'''
+
+BUDGETS = r'''
+>>> from howmanyslips.budgets import front, rigged, unrolled, wins_with
+>>> from howmanyslips.numbers import numbers
+>>> GAME = (("keeper", 2, (0,), ((1, 1),)), ("keeper", 1, (0, 2), ((2, 2),)), ("foe", 1, (2,), ()))
+>>> LOOPS, FIRM = (("keeper", 0, (0,), ((1, 1),)), ("keeper", 1, (0,), ())), (("keeper", 2, (0,), ((1, 1),)), ("keeper", 1, (0,), ()))
+>>> [wins_with(GAME, 0, 2), wins_with(GAME, 0, 3), front(GAME, 2, 0, 2), numbers(unrolled(GAME, 2))[12], numbers(unrolled(GAME, 3))[18], rigged(LOOPS)]
+['keeper', 'foe', 12, 'ever', 0, (('foe', 0, (1, 2), ()), ('keeper', 0, (0,), ()), ('foe', 1, (3,), ()), ('keeper', 1, (0,), ()))]
+'''
+
+DUELS = r'''
+>>> from howmanyslips.duels import duel, is_best_attack
+>>> GAME = (("keeper", 2, (0,), ((1, 1),)), ("keeper", 1, (0, 2), ((2, 2),)), ("foe", 1, (2,), ()))
+>>> [duel(GAME, (0, 0, None), (1, 2, 2), 0), duel(GAME, (0, 2, None), (1, None, 2), 0), is_best_attack(GAME, (1, 2, 2)), is_best_attack(GAME, (None, 2, 2))]
+[(((0, 'slip'), (1, 'slip')), ((2, 'move'),)), (((0, 'slip'), (1, 'move')), ((2, 'move'),)), True, False]
+'''
+
 # The order of the headings in the document.
-EXAMPLES = {"games": GAMES, "plays": PLAYS}
+EXAMPLES = {
+    "games": GAMES, "plays": PLAYS, "plans": PLANS, "numbers": NUMBERS, "budgets": BUDGETS, "duels": DUELS,
+}
 
 DOCUMENT = pathlib.Path(__file__).resolve().parents[2] / "shared" / "DOC.md"
 

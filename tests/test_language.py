@@ -26,6 +26,24 @@ INTERFACE = {
         "is_lasso": ["game", "thing"], "is_path": ["game", "thing"], "winner": ["game", "lasso"],
         "lasso_weight": ["game", "lasso"], "path_weight": ["game", "path"],
     },
+    "plans": {
+        "is_plan": ["game", "thing"], "with_plan": ["game", "plan"], "worths": ["game", "plan"],
+        "does_follow": ["game", "plan", "lasso"], "weak_lasso": ["game", "plan", "place"],
+        "weak_holds": ["game", "plan", "place", "thing"],
+    },
+    "numbers": {
+        "is_number": ["thing"], "is_less": ["one", "other"], "numbers": ["game"], "judge_game": ["game"],
+        "game_holds": ["game", "thing"], "best_plan": ["game"], "is_best_plan": ["game", "plan"],
+        "level": ["game", "number"],
+    },
+    "budgets": {
+        "unrolled": ["game", "k"], "rigged": ["game"], "front": ["game", "k", "place", "budget"],
+        "wins_with": ["game", "place", "k"],
+    },
+    "duels": {
+        "is_attack": ["game", "thing"], "best_attack": ["game"], "is_best_attack": ["game", "attack"],
+        "duel": ["game", "plan", "attack", "place"],
+    },
 }
 
 
@@ -39,6 +57,13 @@ def nodes(kind):
         for node in ast.walk(tree):
             if isinstance(node, kind):
                 yield name, node
+
+
+def defined(module):
+    """The names that a file of the package defines itself."""
+    body = ast.parse((PACKAGE / f"{module}.py").read_text()).body
+    names = [node.name for node in body if isinstance(node, (ast.FunctionDef, ast.ClassDef))]
+    return names + [node.targets[0].id for node in body if isinstance(node, ast.Assign)]
 
 
 class LanguageTest(unittest.TestCase):
@@ -62,8 +87,28 @@ class LanguageTest(unittest.TestCase):
             self.assertEqual(node.level, 0, name)
             self.assertTrue(node.module.startswith("howmanyslips."), name)
             for alias in node.names:
-                module = importlib.import_module(node.module)
-                self.assertEqual(getattr(module, alias.name).__module__, node.module, (name, alias.name))
+                self.assertIn(alias.name, defined(node.module.split(".")[1]), (name, alias.name))
+                self.assertIsNone(alias.asname, (name, alias.name))
+
+    def test_no_two_files_import_from_each_other(self):
+        imports = {file.stem: set() for file in FILES}
+        for name, node in nodes(ast.ImportFrom):
+            imports[name.removesuffix(".py")].add(node.module.split(".")[1])
+        left = dict(imports)
+        while left:
+            free = [name for name, modules in left.items() if not modules & set(left)]
+            self.assertNotEqual(free, [], left)
+            left = {name: modules for name, modules in left.items() if name not in free}
+
+    def test_names_in_functions_mean_nothing_else(self):
+        for name, tree in trees():
+            taken = [alias.asname or alias.name for node in tree.body if isinstance(node, ast.ImportFrom)
+                     for alias in node.names]
+            for node in ast.walk(tree):
+                if isinstance(node, ast.arg) or isinstance(node, ast.Name) and isinstance(node.ctx, ast.Store):
+                    bound = node.arg if isinstance(node, ast.arg) else node.id
+                    self.assertNotIn(bound, taken, name)
+                    self.assertFalse(hasattr(builtins, bound), (name, bound))
 
     def test_only_builtins_and_methods_that_are_allowed(self):
         own = {node.name for _, node in nodes((ast.FunctionDef, ast.ClassDef))}
