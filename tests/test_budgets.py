@@ -42,12 +42,13 @@ class UnrolledTest(unittest.TestCase):
     def test_a_slip_takes_its_weight_from_the_budget(self):
         game = (("keeper", 0, (0, 1), ((0, 2), (1, 3))), ("foe", 1, (0, 1), ()))
         made = unrolled(game, 5)
-        self.assertEqual(made[front(game, 5, 0, 5)][2], (front(game, 5, 1, 2), front(game, 5, 0, 3), front(game, 5, 0, 5) + 1))
-        self.assertEqual(made[front(game, 5, 0, 3)][2], (front(game, 5, 1, 0), front(game, 5, 0, 1), front(game, 5, 0, 3) + 1))
-        self.assertEqual(made[front(game, 5, 0, 2)][2], (front(game, 5, 0, 0), front(game, 5, 0, 2) + 1))
-        self.assertEqual(made[front(game, 5, 0, 1)][2], (front(game, 5, 0, 1) + 1,))
-        self.assertEqual(made[front(game, 5, 0, 4) + 1], ("keeper", 0, (front(game, 5, 0, 4), front(game, 5, 1, 4)), ()))
-        self.assertEqual(made[front(game, 5, 1, 4) + 1], ("foe", 1, (front(game, 5, 0, 4), front(game, 5, 1, 4)), ()))
+        # The front of a place with a budget is 4 * budget + 2 * place.
+        self.assertEqual(made[20], ("foe", 0, (10, 12, 21), ()))
+        self.assertEqual(made[12], ("foe", 0, (2, 4, 13), ()))
+        self.assertEqual(made[8], ("foe", 0, (0, 9), ()))
+        self.assertEqual(made[4], ("foe", 0, (5,), ()))
+        self.assertEqual(made[17], ("keeper", 0, (16, 18), ()))
+        self.assertEqual([made[18], made[19]], [("foe", 1, (19,), ()), ("foe", 1, (16, 18), ())])
 
     def test_unrolled_games_by_chance(self):
         for game in small_games(71, 100):
@@ -74,7 +75,8 @@ class UnrolledTest(unittest.TestCase):
             self.assertIs(is_game(made), True)
 
     def test_front(self):
-        self.assertEqual([front(GAME, 2, 0, 2), front(GAME, 2, 1, 0), front(GAME, 0, 2, 0), front(GAME, 9, 2, 9)], [12, 2, 4, 58])
+        self.assertEqual([front(GAME, 2, 0, 2), front(GAME, 2, 1, 0), front(GAME, 0, 2, 0)], [12, 2, 4])
+        self.assertEqual(front(GAME, 9, 2, 9), 58)
         self.assertEqual(front(GAME, 10 ** 39, 1, 10 ** 39), 6 * 10 ** 39 + 2)
 
 
