@@ -16,6 +16,6 @@ def is_tuple_of(thing, many):
     return isinstance(thing, tuple) and len(thing) == many
 
 
-def is_rising(integers):
-    """Whether each of the integers is greater than the one before it."""
-    return all([one < other for one, other in zip(integers, integers[1:])])
+def is_rising(things):
+    """Whether each of the integers, or of the tuples of integers, is greater than the one before it."""
+    return all([one < other for one, other in zip(things, things[1:])])

@@ -60,9 +60,34 @@ DUELS = r'''
 [(((0, 'slip'), (1, 'slip')), ((2, 'move'),)), (((0, 'slip'), (1, 'move')), ((2, 'move'),)), True, False]
 '''
 
+CONTROLLERS = r'''
+>>> from howmanyslips.controllers import controller_resilience, is_controller, is_weak_play, product
+>>> GAME = (('keeper', 0, (1, 2), ()), ('keeper', 0, (1,), ((3, 2),)), ('keeper', 0, (2,), ()), ('keeper', 1, (3,), ()))
+>>> ROOM = ((1, 1, 2, 3), (0, 0, 0, 0))
+>>> [is_controller(GAME, (ROOM,)), is_controller(GAME, (((1, 1, 2, None), (0, 0, 0, 0)),)), product(GAME, (ROOM,))[0], controller_resilience(GAME, (ROOM,))]
+[True, False, ('keeper', 0, (1,), ()), (2, 2, 'ever', 0)]
+>>> is_weak_play(GAME, (ROOM,), 0, (((0, 'move'), (1, 'slip')), ((3, 'move'),)))
+True
+'''
+
+ADVICE = r'''
+>>> from howmanyslips.advice import best_moves, blame, safe_moves, story
+>>> GAME = (("keeper", 2, (0,), ((1, 1),)), ("keeper", 1, (0, 2), ((2, 2),)), ("foe", 1, (2,), ()))
+>>> [best_moves(GAME, 1), safe_moves(GAME, 1), story(GAME, (((0, "slip"), (1, "move")), 0)), blame(GAME, (((0, "slip"), (1, "move")), 2)), blame(GAME, (((0, "slip"), (1, "slip")), 2))]
+[(0,), (0,), (3, 2, 3), (1,), ()]
+'''
+
+FIRM = r'''
+>>> from howmanyslips.firm import all_slips, costly, fewest_firm, judge_firm, without_slips
+>>> GAME = (('keeper', 0, (1, 2), ()), ('keeper', 0, (1,), ((3, 2),)), ('keeper', 0, (2,), ()), ('keeper', 1, (3,), ()))
+>>> [all_slips(GAME), without_slips(GAME, ((1, 3),))[1], costly(GAME), fewest_firm(GAME, 1, 3), fewest_firm(GAME, 1, 2), fewest_firm(GAME, 3, 1), judge_firm(GAME, 1, 'any')[:2], judge_firm(GAME, 3, 1)[0]]
+[((1, 3),), ('keeper', 0, (1,), ()), ((1, 3),), ((1, 3),), (), None, ('firm', ((1, 3),)), 'never']
+'''
+
 # The order of the headings in the document.
 EXAMPLES = {
     "games": GAMES, "plays": PLAYS, "plans": PLANS, "numbers": NUMBERS, "budgets": BUDGETS, "duels": DUELS,
+    "controllers": CONTROLLERS, "advice": ADVICE, "firm": FIRM,
 }
 
 DOCUMENT = pathlib.Path(__file__).resolve().parents[2] / "shared" / "DOC.md"

@@ -44,6 +44,21 @@ INTERFACE = {
         "is_attack": ["game", "thing"], "best_attack": ["game"], "is_best_attack": ["game", "attack"],
         "duel": ["game", "plan", "attack", "place"],
     },
+    "controllers": {
+        "is_controller": ["game", "thing"], "product": ["game", "controller"],
+        "controller_resilience": ["game", "controller"], "judge_controller": ["game", "controller"],
+        "controller_holds": ["game", "controller", "thing"], "weak_play": ["game", "controller", "v"],
+        "is_weak_play": ["game", "controller", "v", "thing"],
+    },
+    "advice": {
+        "best_moves": ["game", "place"], "safe_moves": ["game", "place"], "story": ["game", "path"],
+        "blame": ["game", "path"],
+    },
+    "firm": {
+        "all_slips": ["game"], "without_slips": ["game", "lot"], "costly": ["game"],
+        "fewest_firm": ["game", "v", "number"], "judge_firm": ["game", "v", "number"],
+        "firm_holds": ["game", "v", "number", "thing"],
+    },
 }
 
 
