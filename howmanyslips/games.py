@@ -1,6 +1,6 @@
 """Games, and how they are written as texts."""
 
-from howmanyslips.errors import BadGame, BadPlace, BadText
+from howmanyslips.errors import BadGame, BadPlace, BadPlaces, BadText
 from howmanyslips.kinds import is_index, is_integer_from, is_rising, is_tuple_of
 
 
@@ -25,9 +25,12 @@ def is_row(thing, many):
 
 def are_moves(thing, many):
     """Whether any value can be the moves of a place."""
-    if not isinstance(thing, tuple) or len(thing) == 0:
-        return False
-    return all([is_index(place, many) for place in thing]) and is_rising(thing)
+    return are_places(thing, many) and len(thing) > 0
+
+
+def are_places(thing, many):
+    """Whether any value is an ascending tuple of places of a game with so many."""
+    return isinstance(thing, tuple) and all([is_index(place, many) for place in thing]) and is_rising(thing)
 
 
 def are_slips(thing, many):
@@ -53,6 +56,12 @@ def require_place(game, place):
     """Raises BadPlace if the place is none of the game."""
     if not is_index(place, len(game)):
         raise BadPlace(place)
+
+
+def require_places(game, thing, least):
+    """Raises BadPlaces if the thing is not an ascending tuple of at least so many places of the game."""
+    if not are_places(thing, len(game)) or len(thing) < least:
+        raise BadPlaces(thing)
 
 
 def places(game):

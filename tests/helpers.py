@@ -1,7 +1,10 @@
 """What several tests use: values of all kinds, changed values, games by chance from a fixed seed."""
 
 import random
+import time
 import unittest
+
+from howmanyslips.desks import Desk
 
 GAME = (("keeper", 2, (0,), ((1, 1),)), ("keeper", 1, (0, 2), ((2, 2),)), ("foe", 1, (2,), ()))
 
@@ -16,7 +19,7 @@ class Stranger:
 JUNK = (
     None, True, False, 0, 1, 2, -1, 7, 10 ** 39, "", " ", "0", "keeper", "foe", "move", "slip", "endless",
     "any", (), (0,), (True,), (0, 0), (1, 0), ((),), (None,), ((0, 1),), ((0, 1), (1, 1)), ((0, True),),
-    [], [0], [[]], [(0, 1)], {}, {0: 1}, {"a": []}, Stranger(),
+    [], [0], [[]], [(0, 1)], {}, {0: 1}, {"a": []}, Desk(GAME), Stranger(),
 )
 
 
@@ -38,6 +41,34 @@ def changed(thing):
             yield thing[:at] + (other,) + thing[at + 1:]
 
 
+def replaced(thing, way, part):
+    """The tuple with the part at a way of positions replaced."""
+    if not way:
+        return part
+    return (*thing[:way[0]], replaced(thing[way[0]], way[1:], part), *thing[way[0] + 1:])
+
+
+def parts(thing, way=()):
+    """All parts of a tuple at any depth, each with the way of positions to it."""
+    yield way, thing
+    if isinstance(thing, tuple):
+        for at, part in enumerate(thing):
+            yield from parts(part, (*way, at))
+
+
+def bent(thing):
+    """All values that come from a tuple by one list, bool or the like in the place of a part at any depth."""
+    for way, part in parts(thing):
+        if isinstance(part, tuple):
+            others = [list(part)]
+        elif isinstance(part, int):
+            others = [part == 1, str(part), (part,), Stranger(), -1 - part]
+        else:
+            others = [False, (), [], [part], Stranger()]
+        for other in others:
+            yield replaced(thing, way, other)
+
+
 def raised(call, *args, **more):
     """The name of the error's class and its attributes; fails if nothing is raised."""
     try:
@@ -54,6 +85,19 @@ class ErrorsCase(unittest.TestCase):
         told, attributes = raised(call, *args)
         self.assertEqual((told, list(attributes)), (name, ["thing"]), (call, args))
         self.assertIs(attributes["thing"], thing)
+
+
+class TimedCase(unittest.TestCase):
+    """Tests of answers that have to come in well under a second.
+
+    Some milliseconds are usual, the rest is for slow machines.
+    """
+
+    def assert_soon(self, call, *args):
+        began = time.process_time()
+        result = call(*args)
+        self.assertLess(time.process_time() - began, 1, (call, args))
+        return result
 
 
 def chance_game(chance, many=5):

@@ -2,7 +2,6 @@
 
 import copy
 import random
-import time
 import unittest
 
 from howmanyslips.controllers import (
@@ -12,7 +11,8 @@ from howmanyslips.numbers import best_plan, game_holds, judge_game, numbers
 from howmanyslips.plans import is_plan, worths
 from howmanyslips.plays import is_lasso, lasso_weight, winner
 from tests import second
-from tests.helpers import JUNK, ErrorsCase, Stranger, chance_lasso, chance_plan, changed, small_game, small_games
+from tests.helpers import (
+    JUNK, ErrorsCase, Stranger, TimedCase, chance_lasso, chance_plan, changed, small_game, small_games)
 from tests.test_certificates import tweaked
 
 # Place 0 is the keeper's with two moves and a slip to 3, which is lost; 1 is kept, and 2 is the foe's.
@@ -391,15 +391,7 @@ class ArgumentsTest(ErrorsCase):
         self.assertEqual(weak_play(PARK, THREE, 0), weak_play(PARK, THREE, 0))
 
 
-class TimeTest(unittest.TestCase):
-    """What may be asked about products has to be answered in well under a second."""
-
-    def assert_soon(self, call, *args):
-        began = time.process_time()
-        result = call(*args)
-        self.assertLess(time.process_time() - began, 1, (call, args))
-        return result
-
+class TimeTest(TimedCase):
     def test_products_of_twelve_places(self):
         chance = random.Random(710)
         for turn in range(40):

@@ -84,10 +84,48 @@ FIRM = r'''
 [((1, 3),), ('keeper', 0, (1,), ()), ((1, 3),), ((1, 3),), (), None, ('firm', ((1, 3),)), 'never']
 '''
 
+GOALS = r'''
+>>> from howmanyslips.goals import again_game, reach_game, safe_game, seldom_game
+>>> GAME = (('keeper', 5, (0, 1), ((1, 4),)), ('foe', 4, (0, 1), ()))
+>>> [safe_game(GAME, (1,)), reach_game(GAME, (1,)), again_game(GAME, (1,)), seldom_game(GAME, ())]
+[(('keeper', 0, (0, 1), ((1, 4),)), ('foe', 1, (1,), ())), (('keeper', 1, (0, 1), ((1, 4),)), ('foe', 2, (1,), ())), (('keeper', 1, (0, 1), ((1, 4),)), ('foe', 2, (0, 1), ())), (('keeper', 0, (0, 1), ((1, 4),)), ('foe', 0, (0, 1), ()))]
+'''
+
+LIKENESS = r'''
+>>> from howmanyslips.likeness import alike, alike_holds, classes, is_likeness, quotient
+>>> GAME = (('keeper', 0, (1, 2), ()), ('foe', 1, (0,), ()), ('foe', 1, (0,), ()), ('foe', 1, (1,), ()))
+>>> [classes(GAME), quotient(GAME), alike(GAME, 1, 2), is_likeness(GAME, ((0,), (1,), (2,), (3,))), is_likeness(GAME, ((0,), (1, 3), (2,)))]
+[((0,), (1, 2), (3,)), (('keeper', 0, (1,), ()), ('foe', 1, (0,), ()), ('foe', 1, (1,), ())), True, True, False]
+>>> [alike_holds(GAME, 1, 3, ('apart', ((0, 1, 'mark'), (1, 3, ('move', 0))))), alike_holds(GAME, 1, 3, ('apart', ((1, 3, ('move', 0)),))), alike_holds(GAME, 2, 1, ('alike', ((0,), (1, 2), (3,))))]
+[True, False, True]
+'''
+
+STANDINS = r'''
+>>> from howmanyslips.standins import chain, grafted, standin_for
+>>> GAME = (('keeper', 0, (1, 2), ()), ('keeper', 0, (1,), ((3, 2),)), ('keeper', 0, (2,), ()), ('keeper', 1, (3,), ()))
+>>> [chain(3), chain('any'), chain('ever')]
+[(('keeper', 0, (0,), ((1, 3),)), ('keeper', 1, (1,), ())), (('keeper', 0, (0,), ((1, 1),)), ('keeper', 1, (0,), ())), (('keeper', 0, (0,), ()),)]
+>>> [grafted(GAME, 1, 2)[:2], grafted(GAME, 1, 2)[4:], standin_for(GAME, (0,))]
+[(('keeper', 0, (2, 4), ()), ('keeper', 0, (4,), ((3, 2),))), (('keeper', 0, (4,), ((5, 2),)), ('keeper', 1, (5,), ())), (('keeper', 0, (1, 3), ()), ('keeper', 0, (1,), ((2, 2),)), ('keeper', 1, (2,), ()), ('keeper', 0, (3,), ()))]
+'''
+
+DESKS = r'''
+>>> from howmanyslips.desks import Desk
+>>> GAME = (('keeper', 0, (1, 2), ()), ('keeper', 0, (1,), ((3, 2),)), ('keeper', 0, (2,), ()), ('keeper', 1, (3,), ()))
+>>> desk = Desk(GAME)
+>>> [desk.numbers(), desk.do(('promise', 0, 'any')), desk.do(('firm', 1, 3)), desk.numbers(), desk.undo(), desk.promises(), desk.deeds(), desk.numbers()]
+[('ever', 2, 'ever', 0), None, None, ('ever', 'ever', 'ever', 0), None, ((0, 'any'),), (('promise', 0, 'any'),), ('ever', 2, 'ever', 0)]
+>>> desk = Desk(GAME)
+>>> desk.do(('promise', 0, 'any'))
+>>> desk.do(('close', 0, 2))
+raises BrokenPromise(v=0)
+'''
+
 # The order of the headings in the document.
 EXAMPLES = {
     "games": GAMES, "plays": PLAYS, "plans": PLANS, "numbers": NUMBERS, "budgets": BUDGETS, "duels": DUELS,
     "controllers": CONTROLLERS, "advice": ADVICE, "firm": FIRM,
+    "goals": GOALS, "likeness": LIKENESS, "standins": STANDINS, "desks": DESKS,
 }
 
 DOCUMENT = pathlib.Path(__file__).resolve().parents[2] / "shared" / "DOC.md"

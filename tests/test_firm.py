@@ -8,8 +8,8 @@ import unittest
 from howmanyslips.firm import all_slips, costly, fewest_firm, firm_holds, judge_firm, without_slips
 from howmanyslips.numbers import judge_game, numbers
 from tests import second
-from tests.helpers import JUNK, ErrorsCase, Stranger, changed, ladder_game, small_game, small_games
-from tests.test_certificates import parts, replaced, tweaked
+from tests.helpers import JUNK, ErrorsCase, Stranger, bent, changed, ladder_game, small_game, small_games
+from tests.test_certificates import tweaked
 from tests.test_numbers import NO_NUMBERS
 
 # Place 4 is lost; 0 slips to it directly for 3, or by way of 1 or of 2, each for 2 together.
@@ -237,17 +237,9 @@ class CertificatesTest(unittest.TestCase):
     def test_bools_and_lists_at_each_depth(self):
         game = (("keeper", 0, (0,), ((0, 1), (1, 1))), ("keeper", 1, (1,), ()))
         for v, number in ((0, "ever"), (0, 2), (0, 1), (1, 1)):
-            paper = judge_firm(game, v, number)
-            for way, part in parts(paper):
-                if isinstance(part, tuple):
-                    others = [list(part)]
-                elif isinstance(part, int):
-                    others = [part == 1, str(part), (part,), Stranger(), -1 - part]
-                else:
-                    others = [False, (), [], [part], Stranger()]
-                for other in others:
-                    with self.subTest(v=v, number=number, way=way, other=other):
-                        self.assertIs(firm_holds(game, v, number, replaced(paper, way, other)), False)
+            for thing in bent(judge_firm(game, v, number)):
+                with self.subTest(v=v, number=number, thing=thing):
+                    self.assertIs(firm_holds(game, v, number, thing), False)
 
     def test_each_change_is_judged_rightly(self):
         chance = random.Random(907)

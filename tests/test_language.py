@@ -7,6 +7,8 @@ import inspect
 import pathlib
 import unittest
 
+from howmanyslips.desks import Desk
+
 PACKAGE = pathlib.Path(__file__).resolve().parents[1] / "howmanyslips"
 FILES = sorted(PACKAGE.glob("*.py"))
 
@@ -59,6 +61,22 @@ INTERFACE = {
         "fewest_firm": ["game", "v", "number"], "judge_firm": ["game", "v", "number"],
         "firm_holds": ["game", "v", "number", "thing"],
     },
+    "goals": {
+        "safe_game": ["game", "bad"], "reach_game": ["game", "aims"], "again_game": ["game", "aims"],
+        "seldom_game": ["game", "bad"],
+    },
+    "likeness": {
+        "is_likeness": ["game", "thing"], "classes": ["game"], "quotient": ["game"], "alike": ["game", "u", "v"],
+        "judge_alike": ["game", "u", "v"], "alike_holds": ["game", "u", "v", "thing"],
+    },
+    "standins": {"chain": ["number"], "grafted": ["game", "v", "number"], "standin_for": ["game", "inside"]},
+    "desks": {"Desk": ["game"], "read_desk": ["text"]},
+}
+
+# The methods of a desk, without self.
+METHODS_OF_DESK = {
+    "do": ["deed"], "undo": [], "redo": [], "game": [], "numbers": [], "promises": [], "deeds": [], "text": [],
+    "copied": [],
 }
 
 
@@ -136,7 +154,24 @@ class LanguageTest(unittest.TestCase):
 
     def test_no_statement_that_is_not_used_here(self):
         self.assertEqual([(name, type(node).__name__) for name, node in nodes(STATEMENTS)], [])
-        self.assertEqual([name for name, _ in nodes((ast.GeneratorExp, ast.Set, ast.Div, ast.Try))], [])
+        self.assertEqual([name for name, _ in nodes((ast.GeneratorExp, ast.Set, ast.Div, ast.Yield, ast.Match))], [])
+
+    def test_only_own_errors_are_caught(self):
+        for name, node in nodes(ast.Try):
+            self.assertEqual(node.finalbody, [], name)
+            for handler in node.handlers:
+                caught = handler.type.elts if isinstance(handler.type, ast.Tuple) else [handler.type]
+                self.assertTrue({error.id for error in caught} <= set(defined("errors")), name)
+
+    def test_no_name_is_a_method_and_an_attribute(self):
+        for name, node in nodes(ast.ClassDef):
+            methods = [part.name for part in node.body if isinstance(part, ast.FunctionDef)]
+            attributes = [part.attr for part in ast.walk(node)
+                          if isinstance(part, ast.Attribute) and isinstance(part.ctx, ast.Store)]
+            self.assertEqual(set(methods) & set(attributes), set(), name)
+            self.assertEqual(len(set(methods)), len(methods), name)
+            unders = [method for method in methods if method.startswith("__")]
+            self.assertTrue(set(unders) <= {"__init__", "__eq__"}, name)
 
     def test_no_per_cent_sign_in_a_string(self):
         strings = [node.value for _, node in nodes(ast.Constant) if isinstance(node.value, str)]
@@ -148,6 +183,11 @@ class LanguageTest(unittest.TestCase):
                 function = getattr(importlib.import_module(f"howmanyslips.{module}"), name)
                 self.assertEqual(function.__module__, f"howmanyslips.{module}")
                 self.assertEqual(list(inspect.signature(function).parameters), parameters)
+
+    def test_the_methods_of_a_desk_stand_in_its_class(self):
+        for name, parameters in METHODS_OF_DESK.items():
+            self.assertIn(name, vars(Desk))
+            self.assertEqual(list(inspect.signature(getattr(Desk, name)).parameters), ["self", *parameters])
 
 
 if __name__ == "__main__":

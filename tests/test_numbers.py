@@ -1,14 +1,13 @@
 """[4.1] to [4.3]: the numbers, best plans, levels."""
 
 import random
-import time
 import unittest
 
 from howmanyslips.budgets import rigged, unrolled
 from howmanyslips.numbers import best_plan, game_holds, is_best_plan, is_less, is_number, judge_game, level, numbers
 from howmanyslips.plans import is_plan, worths
 from tests import second
-from tests.helpers import GAME, JUNK, ErrorsCase, Stranger, small_game, small_games
+from tests.helpers import GAME, JUNK, ErrorsCase, Stranger, TimedCase, small_game, small_games
 from tests.test_plans import BAD_PLANS, FORK
 
 LOST, KEPT = ("keeper", 1, (0,), ()), ("keeper", 0, (0,), ())
@@ -245,15 +244,7 @@ class ArgumentsTest(ErrorsCase):
         self.assertIs(game_holds(game=GAME, thing=judge_game(game=GAME)), True)
 
 
-class TimeTest(unittest.TestCase):
-    """The answers have to come in well under a second; some milliseconds are usual, the rest is for slow machines."""
-
-    def assert_soon(self, call, *args):
-        began = time.process_time()
-        result = call(*args)
-        self.assertLess(time.process_time() - began, 1, (call, args))
-        return result
-
+class TimeTest(TimedCase):
     def test_games_of_seven_places(self):
         chance = random.Random(50)
         full = [tuple(("keeper" if at % 3 else "foe", (at * 5 + turn) % 7, tuple(range(7)),
